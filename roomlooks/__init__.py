@@ -1,0 +1,1 @@
+"""And, or and shares for looks that are done in rooms."""

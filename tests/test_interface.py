@@ -1,0 +1,63 @@
+"""The interface: names, parameters, defaults, and the file in which each is defined."""
+
+import importlib
+import inspect
+import unittest
+
+WANTED = {
+    "errors": """RoomError InvalidBook(at) InvalidText(at) InvalidSaying(at) InvalidTerm(at) InvalidRing(at)
+        InvalidWeight(at) InvalidLook(at) InvalidNumber(word) NoWeight Refused(word)""",
+    "books": "Book(rooms) crossings(book) renamed(book,names)",
+    "fractions": """fraction_of(top,bottom) is_fraction(value) plus(one,other) minus(one,other) times(one,other)
+        ratio(one,other) less(one,other) sum_of(fractions)""",
+    "marks": "Marks(lot) OddRooms(rooms) marks(book) check_marks(book,value)",
+    "sayings": """whole(book) saying_of(book,room,lot) check_saying(book,value) forms(book,saying)
+        all_sayings(book,*,size=None) count_sayings(book) place_of(book,saying) saying_at(book,place)
+        opposite(book,saying) implies(book,one,other) together(book,one,other)""",
+    "full": "is_full(book) least_rooms(size,ring) least_full(size,ring)",
+    "looks": """state_after(book,outcome,saying) sure_after(book,outcome) count_sure(book,outcome)
+        can_follow(book,one,other) next_outcomes(book,outcome,room) shown_next(book,outcome,room)
+        unimplied_look(book) bridges(book,one,other)""",
+    "orders": """implied(book,saying) implying(book,saying) between(book,one,other) count_implied(book)
+        above(book,saying) below(book,saying) chains(book,one,other,*,most=500) count_chains(book,one,other)
+        chain_lengths(book,one,other) longest_chain(book,one,other) shortest_chain(book,one,other)
+        chain_room(book,row) chain_through(book,row)""",
+}
+METHODS = {
+    "Book": "outcomes() shared() rooms_of(outcome) room_of_two(one,other)",
+}
+
+
+def shown(function):
+    """A function or a class with its parameters, without blanks."""
+    return function.__name__ + str(inspect.signature(function)).replace(" ", "").replace("(self,", "(").replace(
+        "(self)", "()")
+
+
+class InterfaceTests(unittest.TestCase):
+    def test_functions_and_classes(self):
+        for name in WANTED:
+            module = importlib.import_module("roomlooks." + name)
+            for wanted in WANTED[name].split():
+                found = getattr(module, wanted.split("(")[0])
+                self.assertEqual(found.__module__, module.__name__)
+                if "(" in wanted:
+                    self.assertEqual(shown(found), wanted)
+
+    def test_methods(self):
+        for name in METHODS:
+            home = [home for home in WANTED if " " + name + "(" in " " + WANTED[home]][0]
+            made = getattr(importlib.import_module("roomlooks." + home), name)
+            for wanted in METHODS[name].split():
+                self.assertEqual(shown(vars(made)[wanted.split("(")[0]]), wanted)
+
+    def test_no_class_is_derived_from_another_one(self):
+        for name in WANTED:
+            module = importlib.import_module("roomlooks." + name)
+            for made in vars(module).values():
+                if inspect.isclass(made) and not issubclass(made, ValueError):
+                    self.assertEqual(made.__bases__, (object,))
+
+
+if __name__ == "__main__":
+    unittest.main()
