@@ -22,6 +22,23 @@ WANTED = {
         above(book,saying) below(book,saying) chains(book,one,other,*,most=500) count_chains(book,one,other)
         chain_lengths(book,one,other) longest_chain(book,one,other) shortest_chain(book,one,other)
         chain_room(book,row) chain_through(book,row)""",
+    "rings": """neighbours(book,room) check_ring(book,value) written_ring(book,value) rings_of(book,size)
+        short_rings(book) shortest_ring(book)""",
+    "settings": """is_setting(book,value) choices(book,setting) holds(book,setting,saying) count_settings(book,told=())
+        all_settings(book,told=()) setting_at(book,place,told=()) place_of_setting(book,setting)""",
+    "spare": "apart_lots(book,size) room_with(book,names)",
+    "verdicts": "House(book)",
+    "tables": "join(house,one,other) meet(house,one,other) join_all(house,sayings) meet_all(house,sayings)",
+    "zigzags": """is_zigzag(book,value) zigzag_length(book,one,other) count_zigzags(book,one,other)
+        shortest_zigzag(book,one,other) zigzag_lengths(book,saying) rooms_between(book,room,other)
+        outcome_row(book,room,other) farthest_from(book,saying) farthest_pair(book)""",
+    "asks": """ask(house,known,saying) enough_known(house,saying,wanted) gentle_room(house,outcome,saying)
+        order_gap(house,one,other)""",
+    "cases": "Cases(room,parts) some_setting(book,told=()) check_cases(book,told,value) fixed(book,told=())",
+    "changed": "changed_joins(book,room) count_changed(book,lot)",
+    "growth": """distance(book,one,other) ways_between(book,one,other,size) first_way(book,one,other)
+        closed_rings(book,lot,size) may_share(book,lot) nearest_two(book,lot) free_lots(book,size)
+        greatest_free_lots(book) grown_book(book,lot,*,size=3)""",
 }
 METHODS = {
     "Book": "outcomes() shared() rooms_of(outcome) room_of_two(one,other)",

@@ -1,0 +1,18 @@
+"""That the examples of README.md hold."""
+
+import doctest
+import os
+import unittest
+
+README = os.path.join(os.path.dirname(os.path.dirname(os.path.abspath(__file__))), "README.md")
+
+
+class ReadmeTests(unittest.TestCase):
+    def test_examples(self):
+        failed, tried = doctest.testfile(README, module_relative=False, encoding="utf-8")
+        self.assertEqual(failed, 0)
+        self.assertGreater(tried, 5)
+
+
+if __name__ == "__main__":
+    unittest.main()
