@@ -69,8 +69,17 @@ def rings_of(book, size):
 
 def _rings(book, size):
     links = [neighbours(book, room) for room in range(len(book.rooms))]
-    # A path is the rooms passed, of which the first is the least, and the outcomes between them.
-    paths = [((room,), ()) for room in range(len(book.rooms))]
+    found = []
+    for rooms, outcomes in _paths(links, size):
+        closing = [outcome for room, outcome in links[rooms[-1]] if room == rooms[0]]
+        if rooms[1] < rooms[-1] and closing and closing[0] not in outcomes:
+            found.append(tuple(zip(rooms, outcomes + (closing[0],))))
+    return tuple(sorted(found))
+
+
+def _paths(links, size):
+    """Paths of so many rooms, the first of which is the least, and of the outcomes between them."""
+    paths = [((room,), ()) for room in range(len(links))]
     for _ in range(size - 1):
         paths = [
             (rooms + (room,), outcomes + (outcome,))
@@ -78,12 +87,7 @@ def _rings(book, size):
             for room, outcome in links[rooms[-1]]
             if room > rooms[0] and room not in rooms and outcome not in outcomes
         ]
-    found = []
-    for rooms, outcomes in paths:
-        closing = [last for room, last in links[rooms[-1]] if room == rooms[0]]
-        if rooms[1] < rooms[-1] and closing and closing[0] not in outcomes:
-            found.append(tuple(zip(rooms, outcomes + (closing[0],))))
-    return tuple(sorted(found))
+    return paths
 
 
 def short_rings(book):

@@ -41,7 +41,8 @@ class BookTests(Case):
         self.gives(Book(rooms), Book, rooms)
 
     def test_names_sizes_and_bounds(self):
-        for room in [("a", "b", "c"), ("a", "ab", "abcde"), ("a", "b", "c", "d"), ("a", "b", "c", "d", "zzzzz")]:
+        for room in [("a", "b", "c"), ("a", "ab", "abcde"), ("a", "abcde", "b"), ("a", "b", "c", "d"),
+                     ("a", "b", "c", "d", "zzzzz")]:
             self.assertEqual(Book((room,)).rooms, (room,))
         self.assertEqual(len(row_of(10).rooms), 10)
         self.assertEqual(len(apart(8).outcomes()), 24)
@@ -59,7 +60,7 @@ class BookTests(Case):
     def test_items_that_are_no_rooms(self):
         good = ("a", "b", "c")
         wrong = [("a", "b"), ("a", "b", "c", "d", "e", "f"), ("b", "a", "c"), ("a", "a", "b"), ("a", "b", "b"),
-                 ("a", "b", "abcdef"), ("", "a", "b"), ("A", "a", "b"), ("a", "b", "c1"), ("a", "b", "c\n"),
+                 ("a", "abcdef", "b"), ("", "a", "b"), ("A", "a", "b"), ("a", "b", "c1"), ("a", "b", "c\n"),
                  ("a", "b", "\u00e9"), ("a", "b", None), ("a", "b", True), ("a", "b", ["c"]), ("a", ("b",), "c"),
                  ["a", "b", "c"], "abc", {"a": 1, "b": 2, "c": 3}, (b"a", b"b", b"c"), (1, 2, 3), (Thing(), "a", "b")]
         for item in wrong + odd_values():

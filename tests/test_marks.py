@@ -75,7 +75,8 @@ class MarksTests(Case):
 
     def test_check_of_spoilt_values(self):
         self.gives(True, check_marks, ONE, Marks(("a", "b", "c")))
-        for lot in [(), ("a", "b"), ["a"], ("b", "a", "c"), ("a", "a", "a"), ("a", "b", "b"), ("z",), "a", ("ab",)]:
+        for lot in [(), ("a", "b"), ["a"], ("b", "a", "c"), ("a", "a", "a"), ("a", "b", "b"), ("z",), "a", ("ab",),
+                    ("a", "z"), ("a", "b", "c", "z"), ("a", "b", "c", None)]:
             self.gives(False, check_marks, ONE, Marks(lot))
         self.gives(True, check_marks, K5, OddRooms((0, 1, 2, 3, 4)))
         for rooms in [(), (0,), (0, 1, 2, 3), [0, 1, 2, 3, 4], (1, 0, 2, 3, 4), (0, 1, 2, 3, 5), (-1, 0, 1, 2, 3),

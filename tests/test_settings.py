@@ -15,7 +15,8 @@ BOOKS = SMALL + MIDDLE + made_books(14, 20, 6)
 def no_settings():
     """Values that are no settings of the bow of two rooms."""
     return odd_values() + [(), ("a",), ("a", "c"), ("d", "a"), ["a", "d"], ("a", "a", "d"), ("a", "b", "d"), ("c", "d"),
-                           ("a", "d", "e"), ("a", "z"), "ad", ("c", "c"), ("c", None)]
+                           ("a", "d", "e"), ("a", "z"), "ad", ("c", "c"), ("c", None), ("a", "d", "z"), ("c", "z"),
+                           ("a", "ab", "d")]
 
 
 class SettingTests(Case):
