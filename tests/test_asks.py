@@ -4,7 +4,7 @@ import unittest
 
 from common import Case, odd_values
 from oracle import Model
-from samples import BOW, FIVE, ONE, PENTAGON, TWO, UNLIKE, book, made_houses, row_of, star
+from samples import BOW, FIVE, ONE, PENTAGON, TWO, book, made_houses, row_of, star
 from roomlooks.asks import ask, enough_known, gentle_room, order_gap
 from roomlooks.errors import InvalidSaying, Refused
 from roomlooks.full import least_full
