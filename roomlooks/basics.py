@@ -53,6 +53,21 @@ def check_room(book, value, word):
         raise InvalidNumber(word)
 
 
+def is_room_lot(book, value):
+    """Whether any value is a lot of numbers of rooms."""
+    if not isinstance(value, tuple) or not all([is_room_number(book, item) for item in value]):
+        return False
+    return is_ascending(value)
+
+
+def is_look(book, value):
+    """Whether any value is a pair of the number of a room and an outcome of it."""
+    if not isinstance(value, tuple) or len(value) != 2:
+        return False
+    room, outcome = value
+    return is_room_number(book, room) and room in book.rooms_of(outcome)
+
+
 def check_outcome(book, value):
     """Raise Refused unless the value is an outcome of the book."""
     if not book.rooms_of(value):
@@ -93,6 +108,12 @@ def levels(near, starts):
     return found
 
 
+def hanging_lots(near):
+    """The lots of the keys of a dict that hang together, as `near` leads from each to others."""
+    lots = sorted([tuple(sorted(levels(near, [item]))) for item in near])
+    return tuple(list({lot: True for lot in lots}))
+
+
 def longer_lots(lots, names, clashes):
     """The lots of a list with one more of these ascending names, behind and not clashing."""
     return [lot + (name,) for lot in lots for name in names if _may_end(lot, name, clashes)]
@@ -102,6 +123,12 @@ def _may_end(lot, name, clashes):
     if lot and not lot[-1] < name:
         return False
     return not any([name in clashes[item] for item in lot])
+
+
+def may_grow(lot, clashes):
+    """Whether some name that the lot lacks clashes with none of its names."""
+    others = [name for name in clashes if name not in lot]
+    return any([not any([name in clashes[item] for item in lot]) for name in others])
 
 
 def lots_without(names, clashes, size):

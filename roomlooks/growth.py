@@ -1,6 +1,6 @@
 """Ways, the rings that a new room closes, and lots that it may share (points [85] to [87])."""
 
-from roomlooks.basics import fresh_names, is_number_within, levels, lots_without, rivals
+from roomlooks.basics import fresh_names, is_number_within, levels, lots_without, may_grow, rivals
 from roomlooks.books import Book
 from roomlooks.errors import InvalidNumber
 from roomlooks.rings import turned_ring
@@ -127,13 +127,8 @@ def greatest_free_lots(book):
     found = list(free_lots(book, MOST_FREE))
     clashes = _clashes(book)
     for size in range(MOST_FREE - 1, 0, -1):
-        found = [lot for lot in free_lots(book, size) if not _may_grow(clashes, lot)] + found
+        found = [lot for lot in free_lots(book, size) if not may_grow(lot, clashes)] + found
     return tuple(found)
-
-
-def _may_grow(clashes, lot):
-    others = [outcome for outcome in clashes if outcome not in lot]
-    return any([not any([outcome in clashes[item] for item in lot]) for outcome in others])
 
 
 def grown_book(book, lot, *, size=3):

@@ -29,7 +29,8 @@ def count_sure(book, outcome):
     return 2 + sum([(1 << (size - 1)) - 2 for size in sizes])
 
 
-def _follows(book, one, other):
+def follows(book, one, other):
+    """Whether one known outcome can follow another one."""
     return one == other or book.room_of_two(one, other) is None
 
 
@@ -37,14 +38,14 @@ def can_follow(book, one, other):
     """Whether the second outcome can follow the first one."""
     check_outcome(book, one)
     check_outcome(book, other)
-    return _follows(book, one, other)
+    return follows(book, one, other)
 
 
 def next_outcomes(book, outcome, room):
     """The lot of the outcomes of a room that can follow an outcome."""
     check_outcome(book, outcome)
     check_room(book, room, "room")
-    return tuple([other for other in book.rooms[room] if _follows(book, outcome, other)])
+    return tuple([other for other in book.rooms[room] if follows(book, outcome, other)])
 
 
 def shown_next(book, outcome, room):

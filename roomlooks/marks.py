@@ -1,6 +1,6 @@
 """Marks: lots of outcomes of which each room has an odd number (point [67])."""
 
-from roomlooks.basics import is_ascending, is_lot_of, is_room_number
+from roomlooks.basics import is_lot_of, is_room_lot
 
 
 class Marks:
@@ -66,9 +66,7 @@ def _are_marks(book, lot):
 
 
 def _are_odd_rooms(book, rooms):
-    if not isinstance(rooms, tuple) or not all([is_room_number(book, room) for room in rooms]):
-        return False
-    if not is_ascending(rooms) or not _is_odd(rooms):
+    if not is_room_lot(book, rooms) or not _is_odd(rooms):
         return False
     homes = [book.rooms_of(outcome) for outcome in book.outcomes()]
     return not any([_is_odd([room for room in own if room in rooms]) for own in homes])

@@ -1,6 +1,6 @@
 """Rings of rooms (points [20] and [21])."""
 
-from roomlooks.basics import check_room, is_number_within, is_room_number
+from roomlooks.basics import check_room, is_look, is_number_within
 from roomlooks.errors import InvalidNumber, InvalidRing
 
 
@@ -16,17 +16,10 @@ def _check_turning(book, value):
     if not isinstance(value, tuple):
         raise InvalidRing(-1)
     for at in range(len(value)):
-        if not _is_share(book, value[at]) or not _goes_on(book, value, at):
+        if not is_look(book, value[at]) or not _goes_on(book, value, at):
             raise InvalidRing(at)
     if len(value) < 3 or value[-1][1] not in book.rooms[value[0][0]]:
         raise InvalidRing(len(value))
-
-
-def _is_share(book, item):
-    if not isinstance(item, tuple) or len(item) != 2:
-        return False
-    room, outcome = item
-    return is_room_number(book, room) and room in book.rooms_of(outcome)
 
 
 def _goes_on(book, pairs, at):
@@ -52,6 +45,15 @@ def check_ring(book, value):
     """Raise InvalidRing unless any value is a written ring."""
     if written_ring(book, value) != value:
         raise InvalidRing(len(value))
+
+
+def is_ring(book, value):
+    """Whether any value is a written ring."""
+    try:
+        check_ring(book, value)
+    except InvalidRing:
+        return False
+    return True
 
 
 def written_ring(book, value):

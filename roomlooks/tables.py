@@ -42,3 +42,10 @@ def meet_all(house, sayings):
     for saying in sayings:
         total = meet(house, total, saying)
     return total
+
+
+def four_meets(house, one, other):
+    """The meets of `one` or its opposite with `other` or its opposite: the corners of the two."""
+    ones = (one, known_opposite(house.book, one))
+    others = (other, known_opposite(house.book, other))
+    return tuple([meet(house, first, second) for first in ones for second in others])

@@ -17,6 +17,8 @@ class Model:
         self.forms = dict(zip(written, [tuple(sorted(forms)) for forms in self.classes.values()]))
         self.sayings = sorted(written, key=lambda lot: (len(lot), lot))
         self.all = rooms[0]
+        self.joins, self.meets = {}, {}
+        self.lots = {saying: {room: set(lot) for room, lot in self.forms[saying]} for saying in self.sayings}
 
     def key(self, number, lot):
         rest = [name for name in self.rooms[number] if name not in lot]
@@ -41,12 +43,11 @@ class Model:
         return self.saying(number, tuple([name for name in self.rooms[number] if name not in lot]))
 
     def together(self, one, other):
-        homes = [room for room, _ in self.forms[other]]
-        return tuple([room for room, _ in self.forms[one] if room in homes])
+        return tuple([room for room in self.lots[one] if room in self.lots[other]])
 
     def implies(self, one, other):
-        later = dict(self.forms[other])
-        return any([room in later and set(lot) <= set(later[room]) for room, lot in self.forms[one]])
+        own, later = self.lots[one], self.lots[other]
+        return any([room in later and own[room] <= later[room] for room in own])
 
     def up(self, saying):
         return [other for other in self.sayings if self.implies(saying, other)]
@@ -59,16 +60,20 @@ class Model:
 
     def join(self, one, other):
         """The join by point [23], None if there is none."""
-        uppers = [s for s in self.sayings if self.implies(one, s) and self.implies(other, s)]
-        least = [s for s in uppers if all([self.implies(s, upper) for upper in uppers])]
-        assert len(least) < 2
-        return least[0] if least else None
+        if (one, other) not in self.joins:
+            uppers = [s for s in self.sayings if self.implies(one, s) and self.implies(other, s)]
+            least = [s for s in uppers if all([self.implies(s, upper) for upper in uppers])]
+            assert len(least) < 2
+            self.joins[one, other] = least[0] if least else None
+        return self.joins[one, other]
 
     def meet(self, one, other):
-        lowers = [s for s in self.sayings if self.implies(s, one) and self.implies(s, other)]
-        greatest = [s for s in lowers if all([self.implies(lower, s) for lower in lowers])]
-        assert len(greatest) < 2
-        return greatest[0] if greatest else None
+        if (one, other) not in self.meets:
+            lowers = [s for s in self.sayings if self.implies(s, one) and self.implies(s, other)]
+            greatest = [s for s in lowers if all([self.implies(lower, s) for lower in lowers])]
+            assert len(greatest) < 2
+            self.meets[one, other] = greatest[0] if greatest else None
+        return self.meets[one, other]
 
 
 def rings(rooms, size):

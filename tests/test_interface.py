@@ -27,7 +27,8 @@ WANTED = {
     "settings": """is_setting(book,value) choices(book,setting) holds(book,setting,saying) count_settings(book,told=())
         all_settings(book,told=()) setting_at(book,place,told=()) place_of_setting(book,setting)""",
     "spare": "apart_lots(book,size) room_with(book,names)",
-    "verdicts": "House(book)",
+    "verdicts": """House(book) Torn(ring,one,other,first,second) court(book) check_verdict(book,value) joinless(book)
+        meetless(book)""",
     "tables": "join(house,one,other) meet(house,one,other) join_all(house,sayings) meet_all(house,sayings)",
     "zigzags": """is_zigzag(book,value) zigzag_length(book,one,other) count_zigzags(book,one,other)
         shortest_zigzag(book,one,other) zigzag_lengths(book,saying) rooms_between(book,room,other)
@@ -39,6 +40,20 @@ WANTED = {
     "growth": """distance(book,one,other) ways_between(book,one,other,size) first_way(book,one,other)
         closed_rings(book,lot,size) may_share(book,lot) nearest_two(book,lot) free_lots(book,size)
         greatest_free_lots(book) grown_book(book,lot,*,size=3)""",
+    "lots": "together_lots(book) centre(book) outcomes_under(book,saying) hidden_pairs(book)",
+    "machines": """check_run(book,run,*,after=None) count_runs(book,plan,*,after=None) run_at(book,plan,number,*,after=None)
+        place_of_run(book,run,*,after=None) last_outcomes(book,plan,*,after=None)
+        lost_run(book,outcome,plan,saying)""",
+    "pairs": """core(house,one,other) shade(house,one,other) common_rooms(book,sayings) are_together(book,sayings)
+        count_together(book)""",
+    "terms": """check_term(value) read_term(text) show_term(term) value_of(house,term,given) worked(house,term,given)
+        pushed(term)""",
+    "texts": "read_book(text) show_book(book)",
+    "trees": "pieces(book) extra_shares(book) room_order(book) check_room_order(book,value)",
+    "weights": """Weightless(numbers) check_weight(book,value) factors_of(book,pairs) weigh(book,weight,factors)
+        share(book,weight,saying) blended(book,pairs) even_weight(book) some_weight(book) check_some(book,value)""",
+    "apart": """Bound(rings) Split(outcome,rooms) sub_book(book,rooms) blocks(book) bound_or_split(book)
+        check_bound(book,value) block_plan(book) check_block_plan(book,value)""",
 }
 METHODS = {
     "Book": "outcomes() shared() rooms_of(outcome) room_of_two(one,other)",
