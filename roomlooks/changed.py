@@ -4,7 +4,7 @@ from roomlooks.books import Book
 from roomlooks.errors import Refused
 from roomlooks.orders import implying
 from roomlooks.rings import short_rings
-from roomlooks.sayings import known_opposite, saying_order, written
+from roomlooks.sayings import known_opposite, pair_order, saying_order, written
 
 
 def changed_joins(book, room):
@@ -14,11 +14,7 @@ def changed_joins(book, room):
         raise Refused("torn")
     lot = [outcome for outcome in room if book.rooms_of(outcome)]
     found = _joins_of_two(longer, lot) + _joins_below(book, lot)
-    return tuple(sorted(found, key=_triple_order))
-
-
-def _triple_order(triple):
-    return (saying_order(triple[0]), saying_order(triple[1]))
+    return tuple(sorted(found, key=pair_order))
 
 
 def _joins_of_two(longer, lot):

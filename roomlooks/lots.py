@@ -4,8 +4,8 @@ from roomlooks.basics import longer_lots, may_grow, rivals
 from roomlooks.sayings import (
     NONE,
     all_sayings,
+    home_bits,
     in_order,
-    known_forms,
     known_implies,
     known_opposite,
     lots_of,
@@ -51,14 +51,9 @@ def _sayings_of_knot(book, knot):
 def centre(book):
     """The sayings that stand together with every saying, in order."""
     sayings = all_sayings(book)
-    homes = {saying: _home_bits(book, saying) for saying in sayings}
+    homes = {saying: home_bits(book, saying) for saying in sayings}
     kinds = sorted(set(list(homes.values())))
     return tuple([saying for saying in sayings if all([homes[saying] & bits for bits in kinds])])
-
-
-def _home_bits(book, saying):
-    """The rooms in which a saying has forms, each as a bit of one integer."""
-    return sum([1 << room for room, _ in known_forms(book, saying)])
 
 
 def outcomes_under(book, saying):

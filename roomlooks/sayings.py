@@ -99,6 +99,11 @@ def saying_order(saying):
     return (len(saying), saying)
 
 
+def pair_order(pair):
+    """The key by which pairs of sayings are ordered: by the first, then by the second saying."""
+    return (saying_order(pair[0]), saying_order(pair[1]))
+
+
 def in_order(sayings):
     """The sayings of a list in order, each once."""
     return tuple(sorted(list({saying: True for saying in sayings}), key=saying_order))
@@ -168,3 +173,8 @@ def together(book, one, other):
     check_saying(book, one)
     check_saying(book, other)
     return known_together(book, one, other)
+
+
+def home_bits(book, saying):
+    """The rooms in which a saying has forms, each as a bit of one integer."""
+    return sum([1 << room for room, _ in known_forms(book, saying)])

@@ -133,3 +133,16 @@ def tops(stand):
         if column < len(found):
             found[column] = row[-1]
     return found
+
+
+def directions(stand):
+    """Integers for all columns of the matrix that sum to 0 in each row: a basis of all such."""
+    found = []
+    for column in range(stand.many()):
+        if column not in stand.basis:
+            entries = [stand.bottom if other == column else 0 for other in range(stand.many())]
+            for row, own in zip(stand.rows, stand.basis):
+                if own < len(entries):
+                    entries[own] = -row[column]
+            found.append(entries)
+    return found

@@ -8,6 +8,7 @@ from roomlooks.sayings import (
     known_opposite,
     known_together,
     lots_of,
+    pair_order,
     rest_of,
     saying_order,
     written,
@@ -100,11 +101,7 @@ def _pairs_across(book, ring):
 def _in_pair_order(pairs):
     """Pairs of unlike sayings, each once, the earlier saying first, ascending in their order."""
     turned = [tuple(sorted(pair, key=saying_order)) for pair in pairs]
-    return tuple(sorted(list({pair: True for pair in turned}), key=_pair_order))
-
-
-def _pair_order(pair):
-    return (saying_order(pair[0]), saying_order(pair[1]))
+    return tuple(sorted(list({pair: True for pair in turned}), key=pair_order))
 
 
 def meetless(book):

@@ -54,6 +54,25 @@ WANTED = {
         share(book,weight,saying) blended(book,pairs) even_weight(book) some_weight(book) check_some(book,value)""",
     "apart": """Bound(rings) Split(outcome,rooms) sub_book(book,rooms) blocks(book) bound_or_split(book)
         check_bound(book,value) block_plan(book) check_block_plan(book,value)""",
+    "bent": """straight_sides(house,low,high,other) straight_door(house,low,high,other) count_straight(house)
+        Straight(pivot) Bent(low,high,other) straight_court(house) check_straightness(house,value)""",
+    "bounds": """Least(value,weight,numbers,bottom) Greatest(value,weight,numbers,bottom) Full(weight,numbers)
+        least_total(book,factors) greatest_total(book,factors) check_least(book,factors,value)
+        check_greatest(book,factors,value) weight_at(book,factors,value) least_share(book,saying)
+        greatest_share(book,saying) full_weight(book) check_full(book,value) never(book) shifts(book) freedom(book)""",
+    "colours": "Colours(settings) Stuck(outcome,parts) colours(book) check_colours(book,value)",
+    "cycles": """ring_sizes(book) ring_book(sizes) ring_settings(sizes) half_weight(book) ring_blend(book,weight)
+        ring_blend_holds(book,weight,value)""",
+    "edits": """extends(one,other) book_with(book,room,*,at=None) without_room(book,room) rewritten(old,new,saying)
+        gone(old,new) lost(old,new) ring_over(old,new,ring)""",
+    "joined": """joined(one,other,*,at=()) lifted(one,other,saying,*,at=()) rings_across(one,other,size,*,at=())
+        joined_girth(one,other,*,at=()) least_across(one,other,first,second,*,at=())
+        greatest_across(one,other,first,second,*,at=())""",
+    "kept": """first_closing(book) kept_rooms(book,order) greatest_houses(book) why_left(book,kept)
+        check_left(book,kept,table)""",
+    "kinds": """corners_of(house,one,other) grown_from(house,sayings) kind_of(term) term_of_kind(kind)
+        kind_value(house,kind,one,other) kind_implies(kind,later) Same(kind) Unlike(book,one,other,first,second)
+        compare_terms(first,second) check_unlike(first,second,value)""",
 }
 METHODS = {
     "Book": "outcomes() shared() rooms_of(outcome) room_of_two(one,other)",
