@@ -3,7 +3,6 @@
 from roomlooks.basics import is_integer
 from roomlooks.errors import InvalidNumber, NoWeight, Refused
 from roomlooks.fractions import fraction_of, is_fraction, less, minus, ratio
-from roomlooks.sayings import check_saying
 from roomlooks.simplex import Stand, directions, lowered, solved
 from roomlooks.weights import (
     are_integers,
@@ -115,13 +114,11 @@ def weight_at(book, factors, value):
 
 def least_share(book, saying):
     """Some Least for the share of a saying."""
-    check_saying(book, saying)
     return least_total(book, factors_of(book, ((1, saying),)))
 
 
 def greatest_share(book, saying):
     """Some Greatest for the share of a saying."""
-    check_saying(book, saying)
     return greatest_total(book, factors_of(book, ((1, saying),)))
 
 

@@ -123,7 +123,8 @@ def _begins(pairs, parts, unit, spare):
 def _circle_pieces(begins, parts, unit):
     """Pairs of the length of a piece of the circle and the shared outcomes whose arcs cover it."""
     ends = [(begins[outcome] + parts[outcome]) % unit for outcome in begins]
-    cuts = sorted(set([0, unit] + list(begins.values()) + ends))
+    # The first arc begins at 0, where the circle begins, too.
+    cuts = sorted(set([unit] + list(begins.values()) + ends))
     found = []
     for at in range(1, len(cuts)):
         start = cuts[at - 1]

@@ -11,9 +11,8 @@ def _rings_within(rings, rooms):
 
 
 def _closed_by(rings, room, rooms):
-    """The rings, as a list, of a room and some others that pass the room."""
-    within = _rings_within(rings, list(rooms) + [room])
-    return [ring for ring in within if any([passed == room for passed, _ in ring])]
+    """The rings, as a list, that a room closes with some others; among these there are none."""
+    return _rings_within(rings, list(rooms) + [room])
 
 
 def first_closing(book):
@@ -47,13 +46,13 @@ def greatest_houses(book):
     masks = sorted(set([sum([1 << room for room, _ in ring]) for ring in short_rings(book)]))
     free = [bits for bits in range(1 << many) if not any([bits & mask == mask for mask in masks])]
     known = {bits: True for bits in free}
-    found = [bits for bits in free if not any([bits | 1 << room in known for room in _others(bits, many)])]
-    lots = [tuple([room for room in range(many) if bits >> room & 1]) for bits in found]
+    found = [bits for bits in free if not any([(bits | 1 << room) in known for room in _others(bits, many)])]
+    lots = [tuple([room for room in range(many) if (bits >> room) & 1]) for bits in found]
     return tuple(sorted(lots, key=_larger_first))
 
 
 def _others(bits, many):
-    return [room for room in range(many) if not bits >> room & 1]
+    return [room for room in range(many) if not (bits >> room) & 1]
 
 
 def _larger_first(lot):

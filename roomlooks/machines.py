@@ -50,9 +50,9 @@ def _counts(book, plan, ends):
     """
     counts = []
     later = ends
-    for at in range(len(plan) - 1, -1, -1):
-        if at < len(plan) - 1:
-            later = {outcome: _going_on(book, outcome, later) for outcome in book.rooms[plan[at]]}
+    for room in plan[::-1]:
+        # In its own room an outcome is followed by itself alone, so the last room keeps `ends`.
+        later = {outcome: _going_on(book, outcome, later) for outcome in book.rooms[room]}
         counts = [later] + counts
     return counts
 

@@ -1,12 +1,12 @@
 """Terms in postfix: their texts, values, and `not` moved inwards (points [30] to [32])."""
 
+from roomlooks.basics import LETTERS
 from roomlooks.errors import InvalidTerm, InvalidText, Refused
 from roomlooks.sayings import NONE, known_opposite, whole
 from roomlooks.tables import join, meet
 
 MOST_ITEMS = 99
 CAPITALS = "ABCDEFGHIJKLMNOPQRSTUVWXYZ"
-SMALL_LETTERS = "abcdefghijklmnopqrstuvwxyz"
 # What `not` makes of a word.
 TURNED = {"none": "all", "all": "none", "and": "or", "or": "and"}
 # How tightly words bind in a text; what stands alone binds tightest.
@@ -64,7 +64,7 @@ def _marks(text):
 
 
 def _is_word_sign(sign):
-    return sign in CAPITALS or sign in SMALL_LETTERS
+    return sign in CAPITALS or sign in LETTERS
 
 
 def read_term(text):

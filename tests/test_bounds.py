@@ -18,7 +18,9 @@ from roomlooks.weights import check_some, even_weight, factors_of, some_weight, 
 SEVEN = book("a b c d\ne f g h\ni j k l\na e i\nb f j\nc g k\nd h l")
 # The rooms "a d g", "b e h" and "c f i" leave nothing for "x", which three rooms have besides.
 NEVER = book("a b c x\nd e f x\ng h i x\na d g\nb e h\nc f i")
-BOOKS = SMALL + MIDDLE + [NEVER, FANO, LARGE[0], ring_of(7)] + made_books(52, 25)
+# Here "x" and "y" never come, for several reasons at once.
+NEVERS = book("a b c x\nd e f x\ng h i y\na d g\nb e h\nc f i")
+BOOKS = SMALL + MIDDLE + [NEVER, NEVERS, FANO, LARGE[0], ring_of(7)] + made_books(52, 25)
 HALF = (1, 2)
 
 
@@ -261,6 +263,8 @@ class NeverTests(Case):
 
     def test_in_every_way(self):
         self.gives(("x",), never, NEVER)
+        self.gives(("x", "y"), never, NEVERS)
+        self.gives(True, check_full, NEVERS, Full(full_weight(NEVERS).weight, (1, 1, 1, -1, -1, -1)))
         self.gives((), never, BOW)
         for each in [ONE, BOW, NEVER, TRIANGLE, K5, LINES, HEXAGON]:
             self.gives(full_weight(each), full_weight, each)

@@ -3,6 +3,7 @@
 import random
 import unittest
 from fractions import Fraction
+from itertools import combinations
 
 from common import Case, odd_values
 from oracle import rings, settings
@@ -51,6 +52,10 @@ def weights_of(each, chance):
     for _ in range(3):
         found.append(least_total(each, tuple([chance.randint(-5, 5) for _ in ones])).weight)
     found += [blended(each, (((1, 3), found[0]), ((2, 3), found[3]))), blended(each, (((5, 7), found[4]), ((2, 7), found[1])))]
+    for _ in range(2):
+        # Shares of all sizes, also of outcomes that just one room has.
+        corners = [least_total(each, tuple([chance.randint(-9, 9) for _ in ones])).weight for _ in range(5)]
+        found.append(blended(each, tuple(zip([(1, 11), (2, 11), (1, 11), (4, 11), (3, 11)], corners))))
     return found + ([even_weight(each)] if even_weight(each) else [])
 
 
@@ -188,6 +193,20 @@ class BlendTests(Case):
                 self.gives(False, ring_blend_holds, each, weight, good[:at] + good[at + 1:])
             self.gives(False, ring_blend_holds, each, weight, list(good))
             self.gives(False, ring_blend_holds, each, half_weight(each), good)
+
+    def test_fractions_not_above_0(self):
+        good = ring_blend(SQUARE, even_weight(SQUARE))
+        lots = [lot for _, lot in settings(SQUARE.rooms)]
+        unused = [lot for lot in lots if lot not in [used for _, used in good]][0]
+        self.gives(False, ring_blend_holds, SQUARE, even_weight(SQUARE), good + (((0, 1), unused),))
+        # Two settings that have together the outcomes of two others: the one less the other two is a weight.
+        fours = [(a, b, c, d) for a, b in combinations(lots, 2) for c, d in combinations(lots, 2)
+                 if sorted(a + b) == sorted(c + d) and a not in (c, d)]
+        one, other, third, fourth = fours[0]
+        weight = tuple([(1, 1) if name in fourth else (0, 1) for name in SQUARE.outcomes()])
+        value = (((1, 1), one), ((1, 1), other), ((-1, 1), third))
+        self.gives(False, ring_blend_holds, SQUARE, weight, value)
+        self.gives(True, ring_blend_holds, SQUARE, weight, (((1, 1), fourth),))
 
     def test_any_value(self):
         weight = even_weight(TRIANGLE)

@@ -187,6 +187,11 @@ class RingTests(Case):
         self.gives(4, joined_girth, ONE_BOOK, OTHER_BOOK, at=AT)
         self.gives(5, joined_girth, ONE_BOOK, LONG, at=(("a", "p"), ("e", "u")))
         self.gives(None, joined_girth, ONE_BOOK, OTHER_BOOK)
+        # The only room of the second book is in the ring.
+        single, ends = book("p q r"), (("a", "p"), ("e", "q"))
+        self.gives((((0, "c"), (1, "e"), (2, "a")),), rings_across, ONE_BOOK, single, 3, at=ends)
+        first = book("p q r\nr s t")
+        self.gives((((0, "a"), (1, "r"), (2, "c")),), rings_across, book("a b c"), first, 3, at=(("a", "p"), ("c", "t")))
         self.gives(3, joined_girth, TRIANGLE, OTHER_BOOK)
         self.gives((), rings_across, ONE_BOOK, OTHER_BOOK, 4)
         self.gives((), rings_across, TRIANGLE, OTHER_BOOK, 3, at=())

@@ -143,6 +143,9 @@ class LeftTests(Case):
             self.gives(False, check_left, TRIANGLE, (0, 1), table)
         self.gives(False, check_left, TWO, (0,), {True: RING})
         self.gives(False, check_left, PENTAGON, (0, 1, 2, 3), {4: ((0, "b"), (1, "c"), (2, "d"), (3, "e"), (4, "a"))})
+        # The rooms that are kept have a short ring themselves.
+        self.gives(False, check_left, TRIANGLE, (0, 1, 2), {})
+        self.gives(False, check_left, BOTH, (0, 1, 2, 3, 5), {4: ((0, "b"), (3, "h"), (4, "d"), (1, "c"))})
         turned = book("c d e\na b c\ne f a")
         self.gives(True, check_left, turned, (0, 2), {1: ((0, "c"), (1, "a"), (2, "e"))})
         self.gives(False, check_left, turned, (0, 2), {True: ((0, "c"), (1, "a"), (2, "e"))})

@@ -119,6 +119,9 @@ class ReadTests(Case):
         self.fails(InvalidText(20), read_book, "aaaaa b c\nb d aaaa b")
         self.fails(InvalidText(18), read_book, "aaaaa b c\nb d aaaaa")
         self.fails(InvalidText(17), read_book, "aaaaa b c\naaaaa b y ")
+        # A name of the book does not stand twice in a line.
+        self.fails(InvalidText(22), read_book, "abcde b c\nabcde f abcde")
+        self.assertEqual(refused_at("abcde b c\nabcde f abcde g"), 22)
 
     def test_full_of_outcomes(self):
         # With 24 outcomes no new name can begin, and a name of the book must fit into the room.
