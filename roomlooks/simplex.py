@@ -1,8 +1,9 @@
 """Least sums under equations, in integers alone, with numbers that show that no sum is less.
 
 A task is a matrix and a tuple of sides, all integers: wanted are shares from 0 on, one for each
-column, such that in each row the shares, each times its entry, sum to the side. Each row gets a
-column of its own behind those of the matrix. What its entries have become tells the numbers.
+column, such that in each row the shares, each times its entry, sum to the side. The rows must
+leave all shares bounded. Each row gets a column of its own behind those of the matrix. What its
+entries have become tells the numbers.
 """
 
 

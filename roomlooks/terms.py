@@ -80,7 +80,7 @@ def read_term(text):
         if _is_start(mark):
             term.append(mark)
         elif mark == CLOSING:
-            _put_waiting(term, waiting, -1)
+            _put_waiting(term, waiting, BINDING["or"])
             waiting.pop()
         else:
             if mark in ("and", "or"):
@@ -89,7 +89,7 @@ def read_term(text):
         begins = mark in (OPENING, "not", "and", "or")
     if begins or OPENING in waiting:
         raise InvalidText(len(text))
-    _put_waiting(term, waiting, -1)
+    _put_waiting(term, waiting, BINDING["or"])
     _check_length(term)
     return tuple(term)
 
