@@ -1,6 +1,6 @@
 """Blocks of rooms that rings hold together, and how a book splits into them ([82] and [83])."""
 
-from roomlooks.basics import hanging_lots, is_room_lot, levels
+from roomlooks.basics import hanging_lots, is_room_lot, steps_from
 from roomlooks.books import Book
 from roomlooks.errors import InvalidNumber
 from roomlooks.rings import is_ring, neighbours, turned_ring
@@ -52,7 +52,7 @@ def blocks(book):
 
 def _ring_through(book, outcome, room, last):
     """A ring that passes an outcome of two rooms that hang together without it."""
-    steps = levels(rooms_near(book, outcome), [last])
+    steps = steps_from(rooms_near(book, outcome), [last])
     ring = ((last, outcome),)
     while room != last:
         links = [(other, name) for other, name in neighbours(book, room) if name != outcome]

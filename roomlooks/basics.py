@@ -90,7 +90,7 @@ def _beside(book, outcome):
     return tuple(sorted([other for room in homes for other in room if other != outcome]))
 
 
-def levels(near, starts):
+def steps_from(near, starts):
     """A dict from each item that can be reached to its steps from the nearest start.
 
     `near` is a dict from each item to those that one step leads to.
@@ -108,9 +108,23 @@ def levels(near, starts):
     return found
 
 
+def way_down(near, steps, start):
+    """From the start to the nearest item with no step left, always to the first nearer item."""
+    way = (start,)
+    for left in range(steps[start] - 1, -1, -1):
+        nearer = [item for item in near[way[-1]] if steps[item] == left]
+        way = way + (nearer[0],)
+    return way
+
+
+def count_bits(bits):
+    """How many bits of an integer from 0 on are set."""
+    return f"{bits:b}".count("1")
+
+
 def hanging_lots(near):
     """The lots of the keys of a dict that hang together, as `near` leads from each to others."""
-    lots = sorted([tuple(sorted(levels(near, [item]))) for item in near])
+    lots = sorted([tuple(sorted(steps_from(near, [item]))) for item in near])
     return tuple(list({lot: True for lot in lots}))
 
 

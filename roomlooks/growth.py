@@ -1,6 +1,6 @@
 """Ways, the rings that a new room closes, and lots that it may share (points [85] to [87])."""
 
-from roomlooks.basics import fresh_names, is_number_within, levels, lots_without, may_grow, rivals
+from roomlooks.basics import fresh_names, is_number_within, lots_without, may_grow, rivals, steps_from
 from roomlooks.books import Book
 from roomlooks.errors import InvalidNumber
 from roomlooks.rings import turned_ring
@@ -17,7 +17,7 @@ def _check_within(value, low, high, word):
 
 def distance(book, one, other):
     """The least number of rooms of a way between two outcomes, or None."""
-    return levels(rivals(book), [one]).get(other)
+    return steps_from(rivals(book), [one]).get(other)
 
 
 def ways_between(book, one, other, size):
@@ -57,7 +57,7 @@ def _steps(book, one, other, way):
 
 def first_way(book, one, other):
     """The first of the ways with the fewest rooms between two unlike outcomes, or None."""
-    steps = levels(rivals(book), [other])
+    steps = steps_from(rivals(book), [other])
     if one not in steps:
         return None
     way = ()
@@ -112,7 +112,7 @@ def _clashes(book):
 
 
 def _too_near(near, outcome):
-    steps = levels(near, [outcome])
+    steps = steps_from(near, [outcome])
     return [other for other in steps if 0 < steps[other] < FREE_DISTANCE]
 
 

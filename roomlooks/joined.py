@@ -19,7 +19,7 @@ from roomlooks.sayings import (
 def joined(one, other, *, at=()):
     """The book of the rooms of both, joined at pairs of outcomes."""
     _check_pairs(one, other, at)
-    names = _names(other, at)
+    names = joined_names(other, at)
     taken = [second for _, second in at]
     if any([one.rooms_of(name) for name in names if name not in taken]):
         raise Refused("names")
@@ -42,7 +42,7 @@ def _is_pair(one, other, pair):
     return one.rooms_of(pair[0]) != () and other.rooms_of(pair[1]) != ()
 
 
-def _names(other, at):
+def joined_names(other, at):
     """A dict from each outcome of the second book to its name in the joined book."""
     first_of = {second: first for first, second in at}
     return {outcome: first_of.get(outcome, outcome) for outcome in other.outcomes()}
@@ -52,7 +52,7 @@ def lifted(one, other, saying, *, at=()):
     """The saying of the joined book for a saying of the second book."""
     both = joined(one, other, at=at)
     check_saying(other, saying)
-    names = _names(other, at)
+    names = joined_names(other, at)
     room, lot = known_forms(other, saying)[0]
     return written(both, len(one.rooms) + room, tuple(sorted([names[outcome] for outcome in lot])))
 

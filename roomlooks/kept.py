@@ -2,7 +2,7 @@
 
 from roomlooks.basics import is_room_lot, is_room_number
 from roomlooks.errors import Refused
-from roomlooks.rings import is_ring, short_rings
+from roomlooks.rings import is_short_ring, short_rings
 
 
 def _rings_within(rings, rooms):
@@ -84,4 +84,4 @@ def check_left(book, kept, table):
 
 def _shows(book, value, room, kept):
     """Whether any value is a short ring of a room and rooms that are kept."""
-    return is_ring(book, value) and len(value) < 5 and _closed_by([value], room, kept) != []
+    return is_short_ring(book, value) and _closed_by([value], room, kept) != []

@@ -56,6 +56,11 @@ def is_ring(book, value):
     return True
 
 
+def is_short_ring(book, value):
+    """Whether any value is a written ring of three or four rooms."""
+    return is_ring(book, value) and len(value) < 5
+
+
 def written_ring(book, value):
     """The written form of a ring that begins at any of its rooms and goes either way."""
     _check_turning(book, value)

@@ -1,7 +1,7 @@
 """Verdicts on books: houses, or what tears them; pairs without a join (points [23] to [27])."""
 
 from roomlooks.orders import implied
-from roomlooks.rings import is_ring, rings_of, short_rings
+from roomlooks.rings import is_short_ring, rings_of, short_rings
 from roomlooks.sayings import (
     is_saying,
     known_implies,
@@ -52,11 +52,7 @@ def check_verdict(book, value):
     """Whether any value is the House of an equal book, or a Torn that shows it is none."""
     if isinstance(value, House):
         return book == value.book and not short_rings(book)
-    return isinstance(value, Torn) and _is_short_ring(book, value.ring) and _tears(book, value)
-
-
-def _is_short_ring(book, value):
-    return is_ring(book, value) and len(value) < 5
+    return isinstance(value, Torn) and is_short_ring(book, value.ring) and _tears(book, value)
 
 
 def _tears(book, torn):

@@ -1,6 +1,6 @@
 """Zigzags of sayings and rows of outcomes from room to room (points [91] to [93])."""
 
-from roomlooks.basics import check_room, levels, rivals
+from roomlooks.basics import check_room, rivals, steps_from, way_down
 from roomlooks.errors import Refused
 from roomlooks.orders import implied, implying
 from roomlooks.sayings import (
@@ -53,14 +53,14 @@ def _near(book, saying):
 def zigzag_length(book, one, other):
     """The number of steps of the shortest zigzags between two sayings, or None."""
     _check_proper(book, (one, other))
-    return levels(_near_table(book), [one]).get(other)
+    return steps_from(_near_table(book), [one]).get(other)
 
 
 def count_zigzags(book, one, other):
     """How many shortest zigzags from one saying to the other there are."""
     _check_proper(book, (one, other))
     near = _near_table(book)
-    steps = levels(near, [one])
+    steps = steps_from(near, [one])
     # Sayings are found level by level, so all that lead to one are counted before it.
     many = {one: 1}
     for saying in steps:
@@ -74,17 +74,8 @@ def shortest_zigzag(book, one, other):
     """The earliest of the shortest zigzags from one saying to the other, or None."""
     _check_proper(book, (one, other))
     near = _near_table(book)
-    steps = levels(near, [other])
-    return _way_down(near, steps, one) if one in steps else None
-
-
-def _way_down(near, steps, start):
-    """From the start to the nearest item with no step left, always to the first nearer item."""
-    way = (start,)
-    for left in range(steps[start] - 1, -1, -1):
-        nearer = [item for item in near[way[-1]] if steps[item] == left]
-        way = way + (nearer[0],)
-    return way
+    steps = steps_from(near, [other])
+    return way_down(near, steps, one) if one in steps else None
 
 
 def zigzag_lengths(book, saying):
@@ -94,13 +85,13 @@ def zigzag_lengths(book, saying):
 
 
 def _lengths_from(near, saying):
-    steps = levels(near, [saying])
+    steps = steps_from(near, [saying])
     return {other: steps.get(other) for other in near}
 
 
 def _exits(book, room):
     """The steps from each outcome that leads to a room to the outcomes of the room."""
-    return levels(rivals(book), list(book.rooms[room]))
+    return steps_from(rivals(book), list(book.rooms[room]))
 
 
 def _check_rooms(book, room, other):
@@ -125,7 +116,7 @@ def outcome_row(book, room, other):
         return None
     least = min([steps[outcome] for outcome in starts])
     first = [outcome for outcome in starts if steps[outcome] == least][0]
-    return _way_down(rivals(book), steps, first)
+    return way_down(rivals(book), steps, first)
 
 
 def farthest_from(book, saying):

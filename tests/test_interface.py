@@ -73,9 +73,29 @@ WANTED = {
     "kinds": """corners_of(house,one,other) grown_from(house,sayings) kind_of(term) term_of_kind(kind)
         kind_value(house,kind,one,other) kind_implies(kind,later) Same(kind) Unlike(book,one,other,first,second)
         compare_terms(first,second) check_unlike(first,second,value)""",
+    "mends": """all_shares(book) parted_book(book,lot) cheapest_parting(book,prices) parting_rings(book,lot)
+        check_cheapest(book,prices,lot,table) fewest_parting(book,*,most=4) more_needed(book,many)
+        check_needed(book,many,value)""",
+    "pictures": """Pictured(settings) Unpictured(one,other,why) setting_between(book,one,other)
+        check_between(book,one,other,value) pictured(book) check_pictured(book,value) is_picture(book,settings)
+        picture(book,settings,saying) fewest_points(book,*,most=4)""",
+    "reaches": """Reached(run,levels) Unreached(lot) reach(book,outcome,saying) check_reach(book,outcome,saying,value)
+        looks_needed(book,outcome,saying)""",
+    "told": "Order(ups,opposites) order_of(book,numbers) told_back(order)",
+    "uppers": """least_above(book,one,other) greatest_below(book,one,other) least_above_all(book,sayings) most_above(book)
+        is_join(book,one,other,value) is_meet(book,one,other,value)""",
+    "alike": "carries(book,other,names) alike(book,other) one_form(book) order_alike(one,other)",
+    "corners": """halves(book,weight) is_corner(book,weight) corners(book,*,most=200) corner_blend(book,weight)
+        check_corner_blend(book,weight,value)""",
+    "live": "Live(book)",
+    "mixed": """joined_weight(one,other,first,second,*,at=()) weight_parts(one,other,weight,*,at=())
+        joint_range(one,other,pair) weight_across(one,other,pair,value) count_joined(one,other,*,at=())
+        extended(book,room,weight) extensions(book,room,setting)""",
 }
 METHODS = {
     "Book": "outcomes() shared() rooms_of(outcome) room_of_two(one,other)",
+    "Live": """present() looks() changes() short_rings() put_room(room,*,at=None) take_room(room) undo()
+        look(room,outcome) sure() next_outcomes() verdict() mending()""",
 }
 
 
