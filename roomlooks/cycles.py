@@ -1,11 +1,9 @@
 """Books whose rooms all stand in one ring, and blends of their weights (point [94])."""
 
-from math import lcm
-
 from roomlooks.basics import LETTERS, is_number_within
 from roomlooks.books import MOST_OUTCOMES, Book
 from roomlooks.errors import InvalidNumber, Refused
-from roomlooks.fractions import fraction_of, is_fraction, sum_of
+from roomlooks.fractions import common_bottom, fraction_of, is_fraction, sum_of
 from roomlooks.rings import neighbours
 from roomlooks.settings import is_setting, setting_of
 from roomlooks.trees import pieces
@@ -84,9 +82,7 @@ def ring_blend(book, weight):
     """Some blend of a weight of a ring book, or None if there is none."""
     pairs = _ring_of(book)
     check_weight(book, weight)
-    unit = 1
-    for _, bottom in weight:
-        unit = lcm(unit, bottom)
+    unit = common_bottom(weight)
     # From here on all shares are integers, and the circle has the length of their unit.
     parts = {name: top * (unit // bottom) for name, (top, bottom) in zip(book.outcomes(), weight)}
     spare = len(pairs) // 2 * unit - sum([parts[outcome] for outcome in book.shared()])

@@ -1,6 +1,6 @@
 """Fractions in lowest terms, as pairs of integers (point [50])."""
 
-from math import gcd
+from math import gcd, lcm
 
 from roomlooks.basics import is_integer
 from roomlooks.errors import InvalidNumber
@@ -21,6 +21,14 @@ def is_fraction(value):
         return False
     top, bottom = value
     return is_integer(top) and is_integer(bottom) and bottom > 0 and gcd(top, bottom) == 1
+
+
+def common_bottom(fractions):
+    """The least integer above 0 that the bottoms of all fractions divide."""
+    unit = 1
+    for _, bottom in fractions:
+        unit = lcm(unit, bottom)
+    return unit
 
 
 def plus(one, other):

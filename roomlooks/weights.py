@@ -127,3 +127,10 @@ def check_some(book, value):
     if not are_integers(numbers, len(book.rooms)):
         return False
     return sum(numbers) < 0 and min(sums_at(book, numbers)) >= 0
+
+
+def sunk(book, numbers):
+    """Numbers that are together at most 0, with no less a sum at any outcome; for a book without a weight."""
+    # Those of a Weightless are together at most -1.
+    many = max(0, sum(numbers))
+    return tuple([own + many * step for own, step in zip(numbers, some_weight(book).numbers)])

@@ -1,5 +1,6 @@
 """The words of the document, done as plainly as possible, to compare the program with."""
 
+from functools import lru_cache
 from itertools import combinations, permutations, product
 
 
@@ -93,6 +94,7 @@ def short_rings_of(rooms):
     return rings(rooms, 3) + rings(rooms, 4)
 
 
+@lru_cache(maxsize=None)
 def settings(rooms):
     """All settings as pairs (choices, setting), in order."""
     found = []

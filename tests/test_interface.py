@@ -91,6 +91,22 @@ WANTED = {
     "mixed": """joined_weight(one,other,first,second,*,at=()) weight_parts(one,other,weight,*,at=())
         joint_range(one,other,pair) weight_across(one,other,pair,value) count_joined(one,other,*,at=())
         extended(book,room,weight) extensions(book,room,setting)""",
+    "mixtures": "Mixture(settings,shares) Bet(numbers) mixture(book,weight) check_mixture(book,weight,value)",
+    "parted": """Ahead(weight) NeverAhead(numbers,bottom) compare_shares(book,one,other)
+        check_comparison(book,one,other,value) crucial_lots(book)""",
+    "spread": """row_sides(house,one,other,third,row) row_gap(house,one,other,third,row)
+        broken_rows(house,one,other,third) spreads(house,one,other,third) hubs(house,one,other,third)
+        some_broken(house) always_spreading(house) triple_reason(house,one,other,third)
+        is_triple_reason(house,one,other,third,value) count_triples(house) and_or_from(house,sayings)""",
+    "enough": """Enough(weights) Lacking(one,other,numbers,bottom) enough_weights(book) check_enough(book,value)
+        unparted_lots(book)""",
+    "turnings": "room_turnings(book,*,most=200) count_turnings(book)",
+    "light": "is_light(book,lot) hidden_rooms(book) odd_weight(book,other)",
+    "grown": """Growing(weights) Stunted(outcome,numbers,bottom) room_growth(book,room)
+        check_room_growth(book,room,value)""",
+    "completed": """Completed(weight) Blocked(numbers) complete_shares(book,told) check_completed(book,told,value)
+        share_range(book,told,outcome) grow(book,room,shares)""",
+    "checker": "words() check(claim) carried(claim,book) gather(book) concluded(book,claims)",
 }
 METHODS = {
     "Book": "outcomes() shared() rooms_of(outcome) room_of_two(one,other)",

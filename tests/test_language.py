@@ -78,9 +78,19 @@ class LanguageTests(unittest.TestCase):
             for node in ast.walk(tree):
                 if isinstance(node, ast.stmt):
                     self.assertIsInstance(node, STATEMENTS, name)
-                self.assertNotIsInstance(node, (ast.GeneratorExp, ast.Yield, ast.YieldFrom, ast.Div, ast.Starred), name)
+                self.assertNotIsInstance(node, (ast.GeneratorExp, ast.Yield, ast.YieldFrom, ast.Div), name)
             for node in tree.body:
                 self.assertIsInstance(node, (ast.Expr, ast.ImportFrom, ast.FunctionDef, ast.ClassDef, ast.Assign), name)
+
+    def test_stars(self):
+        # A star stands only in a call, alone and before a name.
+        for name, _, tree in self.each():
+            above = parents_of(tree)
+            for node in ast.walk(tree):
+                if isinstance(node, ast.Starred):
+                    self.assertIsInstance(above[node], ast.Call, (name, node.lineno))
+                    self.assertIsInstance(node.value, ast.Name, (name, node.lineno))
+                    self.assertEqual((above[node].args, above[node].keywords), ([node], []))
 
     def test_imports(self):
         for name, _, tree in self.each():
