@@ -75,7 +75,7 @@ def corners(book, *, most=200):
     for many, room in enumerate(book.rooms):
         added = [name for name in room if name not in names]
         old = [at for at, name in enumerate(names) if name in room]
-        points = _filled(_cut(points, old, many, len(added) > 0), old, len(added))
+        points = _filled(_cut(points, old, many), old, len(added))
         names = names + added
         if len(points) > most:
             raise Refused("wide")
@@ -92,14 +92,14 @@ def _excess(point, old):
     return sum([point.shares[at] for at in old]) - point.bottom
 
 
-def _cut(points, old, many, may_lack):
-    """The corners that are left if the shares at some places are together 1, or may lack of it.
+def _cut(points, old, many):
+    """The corners that are left if the shares at some places are together at most 1.
 
     So many rooms have led to the corners so far.
     """
     under = [point for point in points if _excess(point, old) < 0]
     over = [point for point in points if _excess(point, old) > 0]
-    found = [point for point in points if _excess(point, old) == 0] + (under if may_lack else [])
+    found = [point for point in points if _excess(point, old) <= 0]
     for one in under:
         for other in over:
             if _is_edge(points, one.bits | other.bits, many):
@@ -123,7 +123,10 @@ def _between(one, other, old):
 
 
 def _filled(points, old, many):
-    """The corners with so many outcomes more, one of which has what is lacking of 1."""
+    """The corners with so many outcomes more, one of which has what is lacking of 1.
+
+    Without such an outcome, just those are left that lack nothing.
+    """
     found = []
     for point in points:
         lack = -_excess(point, old)

@@ -138,24 +138,31 @@ def _ring_triples(book, ring):
 
 def is_triple_reason(house, one, other, third, value):
     """Whether any value is a reason of a triple."""
-    if not isinstance(value, tuple) or not 2 <= len(value) <= 4 or not isinstance(value[0], str):
+    if not isinstance(value, tuple) or not value or not isinstance(value[0], str):
         return False
     triple, told = (one, other, third), value[1:]
     if value[0] == "hub" and len(told) == 1:
         return is_number_within(told[0], 0, 2) and told[0] in hubs(house, one, other, third)
     if value[0] == "step" and len(told) == 3:
-        if not all([is_number_within(item, 0, 2) for item in told]):
-            return False
-        return _door(house, triple, told[0], told[1]) == told[2]
+        low, high, door = told
+        return all([is_number_within(item, 0, 2) for item in told]) and _door(house, triple, low, high) == door
     if value[0] == "ring" and len(told) == 2:
-        if not isinstance(told[1], bool) or not is_ring(house.book, told[0]) or len(told[0]) not in (5, 6):
-            return False
-        return _fits_ring(house.book, triple, told[0], told[1])
-    if value[0] != "row" or len(told) != 2 or not is_number_within(told[0], 0, LAST_ROW):
+        return _is_ring_reason(house.book, triple, told[0], told[1])
+    return value[0] == "row" and len(told) == 2 and _is_row_reason(house, triple, told[0], told[1])
+
+
+def _is_ring_reason(book, triple, ring, turned):
+    """Whether any values are a ring of five or six rooms and True or False that tell of a triple."""
+    if not isinstance(turned, bool) or not is_ring(book, ring) or len(ring) not in (5, 6):
         return False
-    if not house.book.rooms_of(told[1]):
+    return _fits_ring(book, triple, ring, turned)
+
+
+def _is_row_reason(house, triple, row, outcome):
+    """Whether any values are a row of a triple and an outcome that implies just one of its sides."""
+    if not is_number_within(row, 0, LAST_ROW) or not house.book.rooms_of(outcome):
         return False
-    return _tells(house.book, told[1], row_sides(house, one, other, third, told[0]))
+    return _tells(house.book, outcome, row_sides(house, triple[0], triple[1], triple[2], row))
 
 
 def count_triples(house):

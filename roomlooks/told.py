@@ -38,13 +38,15 @@ def told_back(order):
         raise Refused("order")
     atoms = _atoms(order)
     book = _book_of(order, atoms)
+    # Without rings of three no two sayings have the same outcomes below them.
     if book is None or rings_of(book, 3):
         raise Refused("order")
-    # Without rings of three no two sayings have the same outcomes below them.
     by_names = {outcomes_under(book, saying): saying for saying in all_sayings(book)}
     names = [_names_under(order, atoms, number) for number in range(len(order.ups))]
     sayings = tuple([by_names.get(lot) for lot in names])
-    if len(set(sayings)) != len(by_names) or None in sayings or not _fits(order, book, sayings):
+    if len(sayings) != len(by_names) or len(set(sayings)) < len(sayings) or None in sayings:
+        raise Refused("order")
+    if not _fits(order, book, sayings):
         raise Refused("order")
     return (book, sayings)
 
@@ -76,20 +78,23 @@ def _book_of(order, atoms):
     """The book in which the atoms are outcomes, by place, or None if they are those of no book."""
     if len(atoms) > MOST_OUTCOMES:
         return None
-    near = {atom: [other for other in atoms if order.opposites[other] in order.ups[atom]] for atom in atoms}
-    rooms = []
-    for atom in atoms:
-        for other in near[atom]:
-            lot = [third for third in atoms if third in (atom, other) or _is_near(near, third, atom, other)]
-            rooms.append(tuple([LETTERS[atoms.index(number)] for number in lot]))
+    near = {atom: _near(order, atoms, atom) for atom in atoms}
+    rooms = [_room_of(near, atom, other) for atom in atoms for other in near[atom]]
     try:
         return Book(tuple(sorted(set(rooms))))
     except InvalidBook:
         return None
 
 
-def _is_near(near, third, atom, other):
-    return third in near[atom] and third in near[other]
+def _near(order, atoms, atom):
+    """The atoms that an atom excludes, as unlike outcomes of one room do."""
+    return [other for other in atoms if order.opposites[other] in order.ups[atom]]
+
+
+def _room_of(near, atom, other):
+    """The names of the room of two atoms: the two, and all that are near both."""
+    lot = [third for third in near if third in (atom, other) or (third in near[atom] and third in near[other])]
+    return tuple([LETTERS[at] for at, third in enumerate(near) if third in lot])
 
 
 def _names_under(order, atoms, number):

@@ -188,6 +188,9 @@ def longer_and_shorter():
             found.append((Book(tuple(fewer)), Book(tuple(rooms))))
         turned = Book(each.rooms[::-1])
         found.append((each, turned))
+    # A book with odd rooms and others.
+    part = Book((("x", "y", "z"),) + K5.rooms + (("u", "v", "w"),))
+    found.append((part, Book((("r", "s", "t"),) + part.rooms[::-1])))
     for each, room in [(K5, ("a", "x", "y")), (SEVEN, ("x", "y", "z")), (TRIANGLE, ("b", "d", "x")), (BOW, ("a", "e", "f"))]:
         found.append((each, Book((room,) + each.rooms[::-1])))
     return found

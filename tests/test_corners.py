@@ -270,6 +270,24 @@ class BlendTests(Case):
         self.assertGreater(len(found), freedom(each) + 1)
         self.gives(False, check_corner_blend, each, weight, tuple([(pair_of(Fraction(1, len(found))), one) for one in found]))
         self.assertTrue(check_corner_blend(each, weight, corner_blend(each, weight)))
+        # One more than there may be is too many, too.
+        for many in (freedom(each) + 1, freedom(each) + 2):
+            value = tuple([(pair_of(Fraction(1, many)), one) for one in found[:many]])
+            self.gives(many < freedom(each) + 2, check_corner_blend, each, blended(each, value), value)
+
+    def test_spoilt_in_other_ways(self):
+        weight = ((1, 3), (1, 3), (1, 3))
+        one, two, three = corners(ONE)
+        self.gives(True, check_corner_blend, ONE, weight, (((1, 3), two), ((1, 3), one), ((1, 3), three)))
+        # The fractions come to 1, but the blend is another weight.
+        self.gives(False, check_corner_blend, ONE, weight, (((1, 2), two), ((1, 6), one), ((1, 3), three)))
+        self.gives(False, check_corner_blend, ONE, weight, ((HALF, two), (HALF, one)))
+        # A fraction of 0 changes no blend, but it is not above 0.
+        self.gives(True, check_corner_blend, ONE, one, ((FULL, one),))
+        self.gives(False, check_corner_blend, ONE, one, ((FULL, one), (ZERO, two)))
+        # A blend of weights that are no corners.
+        self.gives(False, check_corner_blend, ONE, weight, ((FULL, weight),))
+        self.gives(False, check_corner_blend, ONE, weight, (((1, 3), one), ((2, 3), (ZERO, HALF, HALF))))
 
     def test_any_value(self):
         weight = even_weight(BOW)

@@ -7,13 +7,14 @@ from samples import (BOW, EIGHT, FANO, FIVE, GRID, HEXAGON, K5, LARGE, LINES, MI
                      UNLIKE, apart, book, made_books, star)
 from test_bounds import NEVER, NEVERS, SEVEN, sums_of, worth
 from test_enough import K4, PETERSEN
+from test_parted import EIGHTH, NINTH
 from roomlooks.bounds import greatest_share
 from roomlooks.errors import InvalidNumber, NoWeight
 from roomlooks.grown import Growing, Stunted, check_room_growth, room_growth
 from roomlooks.trees import extra_shares
 from roomlooks.weights import check_some
 
-BOOKS = SMALL + MIDDLE + [NEVER, NEVERS, SEVEN, K4, PETERSEN, LINES] + made_books(86, 25)
+BOOKS = SMALL + MIDDLE + [NEVER, NEVERS, SEVEN, EIGHTH, NINTH, K4, PETERSEN, LINES] + made_books(86, 25)
 FULL, ZERO, HALF = (1, 1), (0, 1), (1, 2)
 
 
@@ -80,6 +81,11 @@ class GrowthTests(Case):
                 self.gives(room_growth(each, room), room_growth, each, room)
                 self.gives(True, check_room_growth, each, room, room_growth(each, room))
         self.assertIsInstance(room_growth(FANO, 0), Stunted)
+        for room in range(8):
+            for outcome in EIGHTH.rooms[room]:
+                numbers = tuple([1 + 5 * step for step in (1, 1, 1, -1, -1, -1, -1)] + [1])
+                value = Stunted(outcome, numbers, 4)
+                self.gives(is_stunted(EIGHTH, room, value), check_room_growth, EIGHTH, room, value)
         self.assertIsInstance(room_growth(SEVEN, 0), Stunted)
         self.assertEqual(room_growth(NEVER, 0).outcome, "x")
         self.gives(True, check_room_growth, NEVER, 0, Stunted("x", (1, 1, 1, -1, -1, -1), 3))

@@ -117,6 +117,13 @@ class HiddenTests(Case):
         # Five rows, and four columns with all of their outcomes but one of each.
         rows = book("a b m\nc d n\ne f o\ng h i p\nj k l q\na g j\nc h k\ne i l\nb d f")
         self.gives((("m", "n", "o", "p", "q"),), hidden_rooms, rows)
+        # Shorter and longer ones, ascending; two outcomes that have 1 together in all weights are none.
+        mixed = book("b i l\na g h i zz\nb f h k m\na abc b ba\nc e h\nba e g l\ne j m\nab d h\nab abc c i j\nba c k")
+        self.gives((("abc", "d", "f"), ("abc", "d", "f", "g"), ("abc", "d", "g"), ("d", "f", "g")), hidden_rooms, mixed)
+        two = book("a d e zz\nba c g h\nabc b d g\nab b ba zz\nf h zz\nc e f\nabc c zz\na ba f\nab e g\nab c d")
+        self.assertTrue(least(two, ("ab", "f")) == 1 == most(two, ("ab", "f")))
+        self.assertIsNone(two.room_of_two("ab", "f"))
+        self.assertEqual([lot for lot in hidden_rooms(two) if len(lot) < 3], [])
         # Six together have 1 in all weights, but that is no room.
         six = book("a b m\nc d n\ne f o\ng h i p\nj k l q\na g j\nc h k\ne i l\nb d r")
         self.assertEqual([lot for lot in hidden_rooms(six) if len(set(lot) & set("mnopqr")) > 4], [])

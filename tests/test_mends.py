@@ -216,6 +216,8 @@ class CheapTests(Case):
                 self.gives(False, check_cheapest, each, prices, lot, {key: table[key] for key in table if key != share})
             for more in [None, 0, "a", (0, "a", "b"), (-1, "a"), (0, "zz"), (1.5, "a")] + [s for s in all_shares(each) if s not in lot][:2]:
                 self.gives(False, check_cheapest, each, prices, lot, {**table, more: table[lot[0]]})
+            # The sequence of the keys does not matter.
+            self.gives(True, check_cheapest, each, prices, lot, {share: table[share] for share in lot[::-1]})
             self.gives(False, check_cheapest, each, prices, lot, [(share, table[share]) for share in lot])
             self.gives(False, check_cheapest, each, prices, lot, None)
         # Keys that only look like a share.
@@ -329,7 +331,11 @@ class FewTests(Case):
         # A ring of five is no short one.
         self.gives(False, check_needed, PENTAGON, 0, ("rings", rings(PENTAGON.rooms, 5)))
         self.gives(False, check_needed, BOW, 0, ("rings", ()))
-        self.gives(False, check_needed, TRIANGLE, 0, ("cases", rings(TRIANGLE.rooms, 3)[0], ()))
+        ring = rings(TRIANGLE.rooms, 3)[0]
+        self.gives(False, check_needed, TRIANGLE, 0, ("cases", ring, ()))
+        # Against 0 only a ring helps, no cases.
+        self.gives(False, check_needed, TRIANGLE, 0, ("cases", ring, (("rings", ()),) * 6))
+        self.gives(False, check_needed, TRIANGLE, 0, ())
 
     def test_rings_that_pass_the_share(self):
         # Each part must do without the share that its case parts.

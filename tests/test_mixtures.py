@@ -129,6 +129,10 @@ class MixtureTests(Case):
         self.assertEqual(len(setting_lots(book("a b c\nd e f g\nh i j k\nl m n o"))), 192)
         wide = book("a b c\nd e f g\nh i j k\nl m n o")
         self.assertIsInstance(mixture(wide, even_weight(wide)), Mixture)
+        most, more = book("a b c d\ne f g h\ni j k l m\ng n o p"), book("a b c d e\nd f g h i\nj k l m\nd m n\no p q")
+        self.assertEqual([len(setting_lots(most)), len(setting_lots(more))], [200, 201])
+        self.assertIsInstance(mixture(most, full_weight(most).weight), Mixture)
+        self.fails(Refused("wide"), mixture, more, full_weight(more).weight)
         for each in [EIGHT, apart(4, 4), row_of(10), apart(5)]:
             self.assertGreater(len(setting_lots(each)), 200)
             self.fails(Refused("wide"), mixture, each, even_weight(each))
@@ -169,6 +173,13 @@ class CheckTests(Case):
                                       (list(good.settings), good.shares), (good.settings, list(good.shares)), (None, good.shares),
                                       (good.settings + good.settings[:1], good.shares + (ZERO,)), (good.settings, None)]:
                 self.gives(False, check_mixture, each, weight, Mixture(settings_, shares))
+            # Shares without settings, and settings without shares, or with the share 0.
+            self.gives(False, check_mixture, each, weight, Mixture(good.settings, good.shares + (HALF,)))
+            for lot in [lot for lot in setting_lots(each) if lot not in good.settings]:
+                at = len([one for one in good.settings if setting_lots(each).index(one) < setting_lots(each).index(lot)])
+                more = good.settings[:at] + (lot,) + good.settings[at:]
+                self.gives(False, check_mixture, each, weight, Mixture(more, good.shares))
+                self.gives(False, check_mixture, each, weight, Mixture(more, good.shares[:at] + (ZERO,) + good.shares[at:]))
             # A setting twice, each time with half of its share.
             half = pair_of(worth(good.shares[0]) / 2)
             twice = Mixture(good.settings[:1] + good.settings, (half, half) + good.shares[1:])

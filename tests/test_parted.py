@@ -15,7 +15,10 @@ from roomlooks.errors import InvalidSaying
 from roomlooks.parted import Ahead, NeverAhead, check_comparison, compare_shares, crucial_lots
 from roomlooks.weights import check_some, even_weight, share
 
-BOOKS = SMALL + MIDDLE + [NEVER, NEVERS, SEVEN, LINES] + made_books(81, 20)
+# A book without a weight in which outcomes belong to one room alone.
+EIGHTH = book("a b c d z\ne f g h\ni j k l\na e i\nb f j\nc g k\nd h l\na x y")
+NINTH = book("a b c d\ne f g h\ni j k l\na e i\nb f j\nc g k\nd h l\nm n o")
+BOOKS = SMALL + MIDDLE + [NEVER, NEVERS, SEVEN, EIGHTH, NINTH, LINES] + made_books(81, 20)
 
 
 def factors_for(each, one, other):
@@ -77,6 +80,15 @@ class CompareTests(Case):
         self.assertIsInstance(compare_shares(BOW, ("a",), ("c", "d")), Ahead)
         self.gives(True, check_comparison, BOW, ("a",), ("a", "b"), NeverAhead((0, 0), 1))
 
+    def test_books_without_a_weight(self):
+        for each in (SEVEN, EIGHTH, NINTH):
+            model = Model(each.rooms)
+            for one in model.sayings:
+                for other in model.sayings[::3]:
+                    found = compare_shares(each, one, other)
+                    self.assertTrue(is_never(each, one, other, found.numbers, found.bottom))
+                    self.assertTrue(check_comparison(each, one, other, found))
+
     def test_all_rows_of_numbers(self):
         for each in [ONE, BOW, TRIANGLE]:
             model, passed = Model(each.rooms), 0
@@ -132,6 +144,7 @@ class CompareTests(Case):
                 self.fails(InvalidSaying(1), compare_shares, each, ("a", value), value)
                 self.fails(InvalidSaying(1), compare_shares, each, (), ("a", value))
                 self.fails(InvalidSaying(1), check_comparison, each, (), ("a", value), None)
+                self.fails(InvalidSaying(1), check_comparison, each, ("a", value), (), None)
         self.fails(InvalidSaying(2), compare_shares, BOW, ("d", "e"), ("z",))
 
     def test_against_the_least_total(self):

@@ -303,7 +303,9 @@ class FewestTests(Case):
         hundred = book("a b c d e\nf g h i j\nk l m n")
         self.assertEqual(len(setting_lots(hundred)), 100)
         self.gives(None, fewest_points, hundred)
-        for each in [book("a b c d e\nf g h i j\nk l m n o"), star(7), EIGHT, row_of(9)]:
+        more = book("a b c d\nd e f g\na h i\na j k l m\ne n o")
+        self.assertEqual(len(setting_lots(more)), 101)
+        for each in [more, book("a b c d e\nf g h i j\nk l m n o"), star(7), EIGHT, row_of(9)]:
             self.assertGreater(len(setting_lots(each)), 100)
             self.fails(Refused("wide"), fewest_points, each)
             self.fails(Refused("wide"), fewest_points, each, most=0)

@@ -8,6 +8,7 @@ from common import Case, Thing, odd_values
 from oracle import Model, rings
 from samples import BOW, EIGHT, FIVE, HEXAGON, ONE, PENTAGON, PIECES, TWO, UNLIKE, apart, book, made_houses, ring_of, row_of, star
 from roomlooks.errors import InvalidNumber
+from roomlooks.rings import shortest_ring
 from roomlooks.spread import (always_spreading, and_or_from, broken_rows, count_triples, hubs, is_triple_reason, row_gap, row_sides,
                               some_broken, spreads, triple_reason)
 from roomlooks.texts import read_book
@@ -280,11 +281,21 @@ class ReasonTests(Case):
             self.gives(False, is_triple_reason, house, ("a",), ("b",), ("c",), value)
         self.gives(("step", 0, 1, 1), triple_reason, house, ("a",), ("a", "b"), ("e", "f"))
         for value in [("step", 0, 1, True), ("step", False, 1, 1), ("step", 0, 1), ("step", 1, 0, 1), ("step", 0, 0, 1), ("step", 0, 1, 0), ("step", 0, 1, 2),
-                      ("step", 0, 1, None), ("step", 0, 2, 1), ("step", 0, 1, 1, 1), ("step", 0, 3, 1), ("step", 3, 0, 1), ("step", 0, 1.0, 1)]:
+                      ("step", 0, 1, None), ("hub", 0, 1, 1), ("", 0, 1, 1), ("ring", 0, 1, 1), ("step", 0, 2, 1), ("step", 0, 1, 1, 1), ("step", 0, 3, 1), ("step", 3, 0, 1), ("step", 0, 1.0, 1)]:
             self.gives(False, is_triple_reason, house, ("a",), ("a", "b"), ("e", "f"), value)
+
+    def test_longer_rings(self):
+        # Rings of seven rooms and more have no triples.
+        for many in (7, 8, 10):
+            each = ring_of(many)
+            ring, house = rings(each.rooms, many)[0] if many < 9 else shortest_ring(each), House(each)
+            for lot in combinations([name for _, name in ring], 3):
+                for turned in (False, True):
+                    self.assertIs(is_triple_reason(house, *[(name,) for name in lot], ("ring", ring, turned)), False)
 
     def test_any_value(self):
         house = House(RING)
+        self.gives(False, is_triple_reason, house, ("a",), ("b",), ("c",), ())
         for triple in [(("a",), ("b",), ("c",)), (("a",), ("d",), ("e",)), (("c",), ("e",), ("i",)), (("a",), ("a", "b"), ("e", "f"))]:
             for value in odd_values() + [Thing()]:
                 self.gives(False, is_triple_reason, house, *triple, value)

@@ -121,6 +121,30 @@ class BackTests(Case):
             self.fails(Refused("order"), told_back, Order(ups, order.opposites))
             self.fails(Refused("order"), told_back, Order(order.ups, order.opposites[:6] + (value,) + order.opposites[7:]))
 
+    def test_a_number_more(self):
+        # Each number is doubled, at each place, and stands for what another one stands for.
+        for each in [ONE, BOW]:
+            order = order_of(each, identity(each))
+            many = len(order.ups)
+            for number in range(many):
+                for place in range(many + 1):
+                    moved = [at + (at >= place) for at in range(many)]
+                    ups, opposites = [None] * (many + 1), [None] * (many + 1)
+                    for at, row in list(enumerate(order.ups)) + [(number, order.ups[number])]:
+                        own = [moved[up] for up in row] + [place for up in row if up == number]
+                        to = moved[at] if ups[moved[at]] is None else place
+                        ups[to], opposites[to] = tuple(sorted(own)), moved[order.opposites[at]]
+                    self.fails(Refused("order"), told_back, Order(tuple(ups), tuple(opposites)))
+
+    def test_numbers_less(self):
+        # Lots of two outcomes and their opposites are left out, so that all outcomes are left.
+        order = order_of(FIVE, identity(FIVE))
+        for out in [number for number, row in enumerate(order.ups) if len(row) == 8]:
+            kept = [number for number in identity(FIVE) if number not in (out, order.opposites[out])]
+            ups = [tuple([kept.index(up) for up in order.ups[number] if up in kept]) for number in kept]
+            opposites = [kept.index(order.opposites[number]) for number in kept]
+            self.fails(Refused("order"), told_back, Order(tuple(ups), tuple(opposites)))
+
     def test_two_pieces_turned_against_each_other(self):
         # Opposites that are no opposites of any book, though each number has one and is the opposite of it.
         order = order_of(TWO, identity(TWO))
