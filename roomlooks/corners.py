@@ -12,16 +12,21 @@ from roomlooks.weights import FULL, ZERO, blended, check_weight, is_weight
 MOST_CORNERS = 1000
 
 
+def _used(book, weight):
+    """The outcomes to which a weight gives a share above 0, as a list."""
+    return [name for name, part in zip(book.outcomes(), weight) if part[0]]
+
+
 def _stand_within(book, weight):
     """Some stand of the weights whose shares are 0 wherever those of a weight are."""
-    used = [name for name, part in zip(book.outcomes(), weight) if part[0]]
+    used = _used(book, weight)
     return solved([[1 if name in room else 0 for name in used] for room in book.rooms], [1 for _ in book.rooms])
 
 
-def _spread_out(weight, parts):
-    """Some values for the outcomes with a share above 0, and 0 for the others, in their order."""
-    left = list(parts)
-    return [left.pop(0) if part[0] else 0 for part in weight]
+def _spread_out(book, weight, values):
+    """A list with the values of the outcomes that a weight uses, and 0 for each other outcome."""
+    table = dict(zip(_used(book, weight), values))
+    return [table.get(name, 0) for name in book.outcomes()]
 
 
 def halves(book, weight):
@@ -30,7 +35,7 @@ def halves(book, weight):
     found = directions(_stand_within(book, weight))
     if not found:
         return None
-    entries = _spread_out(weight, found[0])
+    entries = _spread_out(book, weight, found[0])
     steps = [ratio(part, (abs(entry), 1)) for part, entry in zip(weight, entries) if entry]
     step = _least(steps)
     return (_moved(weight, entries, step), _moved(weight, entries, minus(ZERO, step)))
@@ -143,7 +148,7 @@ def corner_blend(book, weight):
     left, rest, pairs = FULL, weight, ()
     while left != ZERO:
         stand = _stand_within(book, rest)
-        corner = tuple([fraction_of(top, stand.bottom) for top in _spread_out(rest, tops(stand))])
+        corner = tuple([fraction_of(top, stand.bottom) for top in _spread_out(book, rest, tops(stand))])
         # So much of the corner is in the rest that a share of it goes to 0, or nothing is left.
         part = _least([ratio(own, top) for own, top in zip(rest, corner) if top[0]])
         pairs = pairs + ((times(left, part), corner),)

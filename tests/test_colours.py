@@ -5,7 +5,7 @@ import unittest
 from itertools import combinations, product
 
 from common import Case, Thing, odd_values, plain
-from samples import (BOW, EIGHT, FANO, FIVE, GRID, K5, K6, LARGE, LINES, MIDDLE, ONE, SMALL, SQUARE, TORN, TRIANGLE, TWO, UNLIKE,
+from samples import (BOW, EIGHT, FANO, FIVE, GRID, K5, K6, LARGE, LINES, MIDDLE, ONE, SMALL, SQUARE, TRIANGLE, TWO, UNLIKE,
                      apart, book, plane, star)
 from roomlooks.books import Book
 from roomlooks.colours import Colours, Stuck, check_colours, colours
